@@ -1,0 +1,1 @@
+"""Upvalues: a language of tables, closures and coroutines, walked and compiled."""
