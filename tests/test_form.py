@@ -1,5 +1,6 @@
 """[17], [19], [20] the form of programs, and the bounds of [21]."""
 
+import string
 import unittest
 
 from builders import BREAK, INF, MINUS_ZERO, NAN, NIL, do, doing, function, give, goto, label, local, loop, name, refusal, when
@@ -90,7 +91,18 @@ def as_target(node):
     return (("set", (node,), (NIL,)),), (0, 1, 0)
 
 
-PLACES = [(as_statement, STATEMENTS), (as_expression, EXPRESSIONS), (as_item, ITEMS), (as_target, TARGETS)]
+def as_function(node):
+    return (("localfun", "f", node),), (0, 2)
+
+
+def as_called(node):
+    return (("call", node),), (0, 1)
+
+
+FUNCTIONS = [row for row in EXPRESSIONS if row[0][0] == "function"]
+CALLED = [row for row in EXPRESSIONS if row[0][0] in ("call", "method")]
+PLACES = [(as_statement, STATEMENTS), (as_expression, EXPRESSIONS), (as_item, ITEMS), (as_target, TARGETS), (as_function, FUNCTIONS),
+          (as_called, CALLED)]
 
 
 def replaced(node, place, thing):
@@ -180,7 +192,7 @@ class NodesTest(FormCase):
 
 
 class NamesTest(FormCase):
-    GOOD = ["a", "_", "Z", "_9", "a_B_0", "while", "_ENV", "a" * 20, "x" + "0" * 19]
+    GOOD = [*string.ascii_letters, "_", "Z", "_9", "a_B_0", "while", "_ENV", "a" * 20, "x" + "0" * 19]
     BAD = ["", "9", "9a", "a b", "a-b", "a" * 21, "a" * 10 ** 6, "\u00e9", "a\u0660", "\u00aa", "a.", " a", "a\n", "\x00", None, 5,
            True, b"a", ["a"], ("a",), INF]
 
@@ -199,6 +211,8 @@ class NamesTest(FormCase):
                 ((give(("name", word)),), (0, 1, 0)),
                 ((give(("method", NIL, word, ())),), (0, 1, 0)),
                 ((give(("function", ("a", "b", word), False, ())),), (0, 1, 0)),
+                ((("localfun", "a", ("function", (word, "b"), False, ())),), (0, 2)),
+                ((("call", ("method", NIL, word, ())),), (0, 1)),
             ]:
                 self.assertEqual(refusal(program, check_program), told and (path, told), (program, word))
 
@@ -428,6 +442,9 @@ class BoundsTest(FormCase):
             (("call", ("call", NIL, values)), ("call", ("call", NIL, values + (NIL,))), (1,)),
             (("call", ("method", NIL, "a", values)), ("call", ("method", NIL, "a", values + (NIL,))), (1,)),
             (give(("function", many, False, ())), give(("function", many + ("a",), False, ())), (1, 0)),
+            (("localfun", "f", ("function", many, False, ())), ("localfun", "f", ("function", many + ("a",), False, ())), (2,)),
+            (("return", (("call", NIL, values),)), ("return", (("call", NIL, values + (NIL,)),)), (1, 0)),
+            (("return", (("method", NIL, "a", values),)), ("return", (("method", NIL, "a", values + (NIL,)),)), (1, 0)),
             (give(("table", (("item", NIL),) * 300)), give(("table", (("item", NIL),) * 301)), (1, 0)),
             (give(("table", (("pair", NIL, NIL),) * 300)), give(("table", (("pair", NIL, NIL),) * 301)), (1, 0)),
         ]:
