@@ -4,6 +4,7 @@ import math
 
 from upvalues.errors import InvalidProgram
 from upvalues.numbers import Float
+from upvalues.objects import Thrown
 
 NIL = ("nil",)
 BREAK = ("break",)
@@ -111,3 +112,19 @@ def written(number):
     if isinstance(number, Float):
         return ("float", number.sign, number.top, number.power)
     return (type(number).__name__, number)
+
+
+def filled(table, *keys):
+    """A table in which each key has itself as its value."""
+    for key in keys:
+        table.put(key, key)
+    return table
+
+
+def thrown(act, *args):
+    """The value of what is thrown, or None."""
+    try:
+        act(*args)
+    except Thrown as found:
+        return found.value
+    return None

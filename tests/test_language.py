@@ -206,7 +206,8 @@ class LanguageTest(unittest.TestCase):
             for name in file.local_names() + file.defined() + file.imported():
                 self.assertNotIn(name, NEVER_NAMES | NEVER, file.name)
             for node in file.all(ast.Name):
-                if hasattr(builtins, node.id):
+                # Examples that are run elsewhere leave _ among the builtins.
+                if node.id != "_" and hasattr(builtins, node.id):
                     self.assertIn(node.id, BUILTINS, f"{file.name}:{node.lineno}")
         for name in own:
             self.assertFalse(hasattr(builtins, name), name)
@@ -244,7 +245,8 @@ class LanguageTest(unittest.TestCase):
         for file, node, told in self.each(ast.Call):
             if isinstance(node.func, ast.Name) and node.func.id in ITERATED:
                 parent = file.parents[node]
-                is_argument = isinstance(parent, ast.Call) and isinstance(parent.func, ast.Name) and parent.func.id in ITERATING
+                is_argument = isinstance(parent, ast.Call) and isinstance(parent.func, ast.Name) and (
+                    parent.func.id in ITERATING or (parent.func.id, node.func.id) == ("reversed", "range"))
                 self.assertTrue(is_argument or isinstance(parent, (ast.For, ast.comprehension)), told)
 
     def test_calls(self):

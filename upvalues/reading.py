@@ -38,7 +38,9 @@ class OpenBlock:
 class Scope:
     """A function: its variables in scope while it is read, and the upvalues that it has."""
 
-    def __init__(self, has_dots, upvalues):
+    def __init__(self, path, around, has_dots, upvalues):
+        self.path = path
+        self.around = around
         self.has_dots = has_dots
         self.upvalues = upvalues
         self.variables = []
@@ -71,24 +73,23 @@ class Reading:
 
     def __init__(self):
         self.globals_variable = Variable(None, 0, "_ENV", None)
-        self.scope = Scope(True, [self.globals_variable])
-        self.around = []
+        self.scope = Scope((), None, True, [self.globals_variable])
         self.functions = [self.scope]
         self.lines = []
         self.tails = []
         self.declared = []
         self.uses = []
+        self.needs = {}
         self.jumps = []
 
-    def enter_function(self, has_dots):
+    def enter_function(self, path, has_dots):
         """Goes into a function that stands here."""
-        self.around.append(self.scope)
-        self.scope = Scope(has_dots, [])
+        self.scope = Scope(path, self.scope, has_dots, [])
         self.functions.append(self.scope)
 
     def leave_function(self):
         """Goes back to the function around."""
-        self.scope = self.around.pop()
+        self.scope = self.scope.around
 
     def declare(self, path, place, name, mark):
         """Brings a variable into scope."""
@@ -100,16 +101,20 @@ class Reading:
 
     def scopes(self):
         """The functions around here, the innermost one first."""
-        return [self.scope] + self.around[::-1]
+        found = [self.scope]
+        while found[-1].around is not None:
+            found.append(found[-1].around)
+        return found
 
     def look_up(self, name):
         """The variable that a name is, or None, and how many functions' borders lie between."""
-        for borders, scope in enumerate(self.scopes()):
+        scopes = self.scopes()
+        for borders, scope in enumerate(scopes):
             variable = scope.variable_named(name)
             if variable is not None:
                 return variable, borders
         if name == "_ENV":
-            return self.globals_variable, len(self.around)
+            return self.globals_variable, len(scopes) - 1
         return None, 0
 
     def use(self, path, name):
@@ -122,6 +127,7 @@ class Reading:
         else:
             word = "local" if borders == 0 and variable.path is not None else "upvalue"
         self.uses.append((path, word, needed.where(), borders))
+        self.needs[path] = (word, needed)
         for scope in self.scopes()[:borders]:
             scope.capture(needed, path)
             needed.is_captured = True
@@ -179,7 +185,7 @@ def read_expression(reading, path, node, position):
 
 def read_function(reading, path, node):
     """Reads a function with its parameters and its block."""
-    reading.enter_function(node[2])
+    reading.enter_function(path, node[2])
     for place, name in enumerate(node[1]):
         reading.declare(path, place, name, None)
     read_block(reading, path + (3,), node[3])
