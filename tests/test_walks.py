@@ -3,7 +3,10 @@
 import unittest
 
 from builders import GREATEST_INT, INF, NAN, filled, real, thrown
+from upvalues.code import Code
+from upvalues.errors import InvalidArgument
 from upvalues.numbers import Float
+from upvalues.objects import Thrown
 from upvalues.tables import Table
 
 
@@ -142,6 +145,13 @@ class NextTest(unittest.TestCase):
             self.assertEqual(thrown(self.table.next_after, key), "invalid key to 'next'", key)
         for table in (Table(0), Table(0, 3)):
             self.assertEqual([thrown(table.next_after, key) for key in ("x", 0, 4, NAN)], ["invalid key to 'next'"] * 4)
+
+    def test_things_of_any_kind(self):
+        things = ([], [1], (), (1,), {}, {"a": 1}, set(), {1}, 1.0, 0.5, float("nan"), 1j, b"a", b"", bytearray(b"a"), object(), Ellipsis, range(3), len, int,
+                  Code(0, False, 0, [], [], [], []), Thrown("a"), InvalidArgument("a"))
+        for thing in things:
+            for table in (self.table, Table(0), Table(0, 3), Table(0, 0, 4)):
+                self.assertEqual(thrown(table.next_after, thing), "invalid key to 'next'", thing)
 
     def test_places_without_value_are_keys(self):
         table = Table(0, 3)

@@ -104,7 +104,7 @@ class Table(Kinded):
 
     def node_of(self, key, with_dead):
         """The number of the node of a key, or None."""
-        if len(self.nodes) == 0 or not is_key(key):
+        if len(self.nodes) == 0 or not can_be_key(key):
             return None
         at = main_position(key, len(self.nodes))
         while at is not None:
@@ -220,9 +220,9 @@ def are_equal_keys(one, other):
     return one == other and isinstance(one, bool) == isinstance(other, bool)
 
 
-def is_key(key):
-    """Whether a value can be a key."""
-    return key is not None and not is_nan(key)
+def can_be_key(thing):
+    """Whether a thing of any kind can be a key: it is a value of the language, but not nil or nan."""
+    return isinstance(thing, (bool, int, str, Kinded)) and not is_nan(thing)
 
 
 def check_key(key):
