@@ -161,7 +161,7 @@ class LanguageTest(unittest.TestCase):
 
     def test_statements(self):
         bad = (ast.Global, ast.AsyncFunctionDef, ast.AsyncFor, ast.AsyncWith, ast.Await, ast.Lambda, ast.GeneratorExp, ast.Set,
-               ast.SetComp, ast.Yield, ast.YieldFrom, ast.NamedExpr, ast.Div, ast.MatMult, ast.AnnAssign, ast.Try, ast.With)
+               ast.SetComp, ast.Yield, ast.YieldFrom, ast.NamedExpr, ast.Div, ast.MatMult, ast.AnnAssign, ast.With)
         for _, _, told in self.each(*bad):
             self.fail(told)
         for _, node, told in self.each(ast.FunctionDef, ast.ClassDef):
@@ -173,13 +173,23 @@ class LanguageTest(unittest.TestCase):
             for inner in ast.walk(node):
                 self.assertTrue(inner is node or not isinstance(inner, (ast.FunctionDef, ast.ClassDef)), told)
 
+    def test_only_own_errors_are_caught(self):
+        own = {node.name for file in FILES for node in file.all(ast.ClassDef) if file.name in ("errors.py", "objects.py")}
+        for _, node, told in self.each(ast.Try):
+            self.assertEqual(node.finalbody, [], told)
+            for handler in node.handlers:
+                self.assertIsInstance(handler.type, ast.Name, told)
+                self.assertIn(handler.type.id, own, told)
+
     def test_constants(self):
         for file, node, told in self.each(ast.Constant):
             self.assertTrue(node.value is None or isinstance(node.value, (bool, int, str)), told)
             parent = file.parents[node]
             if isinstance(node.value, str) and not isinstance(parent, ast.Expr):
                 self.assertNotIn("%", node.value, told)
-                self.assertFalse(re.search(r"\._$|\.__$|^__.*__$|(?<![A-Za-z0-9_])__", node.value), told)
+                self.assertFalse(re.search(r"\._$|\.__$|^__.*__$", node.value), told)
+                if re.search(r"[{}]", node.value) or ("." in node.value and " " not in node.value):
+                    self.assertFalse(re.search(r"(?<![A-Za-z0-9_])__", node.value), told)
         for _, node, told in self.each(ast.BinOp):
             if isinstance(node.op, ast.Pow):
                 self.assertTrue(isinstance(node.right, ast.Constant) and 0 <= node.right.value <= 64, told)

@@ -32,7 +32,7 @@ def function_code(outline, scope):
     draft.release(draft.height)
     # What is pending is closed by the return itself.
     draft.emit("return", 0, 0, False)
-    return draft.code(len(params))
+    return draft.made_code(len(params))
 
 
 def write_block(draft, path, block):

@@ -40,7 +40,7 @@ class Draft:
         # For each label that was not met yet: the places of the jumps to it.
         self.gotos = {}
 
-    def code(self, params):
+    def made_code(self, params):
         """The code of the function, when all of it is written."""
         upvalues = self.outline.captured_from(self.scope)
         return Code(params, self.scope.has_dots, self.size, upvalues, self.instructions, self.lines, self.lives)

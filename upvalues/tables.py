@@ -2,7 +2,7 @@
 
 from upvalues.ints import GREATEST, ONES, is_int
 from upvalues.numbers import Float, is_nan, whole_of
-from upvalues.objects import Kinded, Native, Thrown
+from upvalues.objects import Kinded, Native, Numbered, Thrown
 
 # The lowest 32 bits.
 SHORT_ONES = 2 ** 32 - 1
@@ -21,7 +21,7 @@ class Node:
         self.is_dead = False
 
 
-class Table(Kinded):
+class Table(Numbered):
     """A table; what is thrown for a key leaves it as it was."""
 
     KIND = "table"
@@ -68,6 +68,12 @@ class Table(Kinded):
         """Lets there be so many places at least."""
         if len(self.places) < count:
             self.rebuild(count, len(self.nodes))
+
+    def put_batch(self, start, values):
+        """Puts values at the integers from start on, the last one first; ahead of it makes room for all."""
+        self.make_room(start + len(values) - 1)
+        for at in reversed(range(len(values))):
+            self.put(start + at, values[at])
 
     def border(self):
         """An integer with a value, or 0, behind which the next one has none."""
