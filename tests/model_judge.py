@@ -45,6 +45,8 @@ def has_kind(kind, thing):
 
 def form_fault(code, is_main):
     """What is amiss in a Code but for its instructions, or None."""
+    if not all(type(rows) is list for rows in (code.upvalues, code.instructions, code.lines, code.lives)):
+        return "lists"
     if not is_int(code.size, 0, 2000) or not is_int(code.params, 0, code.size) or type(code.has_dots) is not bool:
         return "head"
     for up in code.upvalues:
@@ -124,11 +126,11 @@ def steps(at, part):
 
 
 def named(codes, part):
-    """How many registers an instruction needs."""
+    """How many registers an instruction needs; what a new function captures is asked for later."""
     word = part[0]
-    every = reads(codes, part) + writes(part) + [part[1 + at] for at, kind in enumerate(FORMS[word]) if kind == "r"]
     if word == "function":
-        every = [part[1]]
+        return part[1] + 1
+    every = reads(codes, part) + writes(part) + [part[1 + at] for at, kind in enumerate(FORMS[word]) if kind == "r"]
     if word in ("forbegin", "fornext"):
         every.append(part[1] + 3)
     if word == "eachnext":
@@ -146,8 +148,6 @@ def refused(codes, code, part, is_last):
     kinds = FORMS[part[0]]
     if not all(has_kind(kind, thing) for kind, thing in zip(kinds, part[1:])):
         return "form"
-    if part[0] == "function" and not part[2] < len(codes):
-        return "function"
     if named(codes, part) > code.size:
         return "register"
     for kind, thing in zip(kinds, part[1:]):
@@ -155,6 +155,8 @@ def refused(codes, code, part, is_last):
             return "upvalue"
         if kind == "p" and thing >= len(code.instructions):
             return "jump"
+        if kind == "f" and thing >= len(codes):
+            return "function"
     if part[0] == "function":
         for kind, place in codes[part[2]].upvalues:
             if place >= (code.size if kind == "reg" else len(code.upvalues)):
@@ -259,22 +261,125 @@ class Ways:
         return False
 
 
-def code_fault(codes):
-    """(function, place, word) for the first thing that is wrong in a program of code, or None."""
+def head_fault(codes):
+    """(function, None, "form") for what is wrong but for the instructions, or None."""
     if not isinstance(codes, (list, tuple)) or len(codes) == 0 or not all(isinstance(code, Code) for code in codes):
         return (None, None, "form")
     for number, code in enumerate(codes):
-        fault = form_fault(code, number == 0)
-        if fault is not None:
-            return (number, None, fault)
+        if form_fault(code, number == 0) is not None:
+            return (number, None, "form")
+    return None
+
+
+def part_fault(codes, number):
+    """(function, place, word) for the first instruction of a Code that is refused by itself, or None."""
+    code = codes[number]
+    for at, part in enumerate(code.instructions):
+        word = refused(codes, code, part, at == len(code.instructions) - 1)
+        if word is not None:
+            return (number, at, word)
+    return None
+
+
+def code_fault(codes):
+    """(function, place, word) for the first thing that is wrong in a program of code, or None."""
+    fault = head_fault(codes)
+    if fault is not None:
+        return fault
     for number, code in enumerate(codes):
-        for at, part in enumerate(code.instructions):
-            word = refused(codes, code, part, at == len(code.instructions) - 1)
-            if word is not None:
-                return (number, at, word)
+        fault = part_fault(codes, number)
+        if fault is not None:
+            return fault
         ways = Ways(codes, code)
         for at in sorted(ways.before):
             word = ways.fault(at)
             if word is not None:
                 return (number, at, word)
     return None
+
+
+# Papers, by [71].
+
+def paper_rows(codes, code):
+    """What a paper tells of each place of a Code that passes."""
+    ways = Ways(codes, code)
+    rows = []
+    for at in range(len(code.instructions)):
+        if at not in ways.before:
+            rows.append(None)
+            continue
+        written, left, pending, plans = ways.before[at]
+        told = (False,) if left == {False} else (True,) if left == {True} else (False, True)
+        rows.append((ordered(written), told, ordered(pending), ordered(plans), ordered(ways.needed[at]), longest(code, at, {})))
+    return rows
+
+
+def ordered(registers):
+    return tuple(sorted(registers))
+
+
+def longest(code, at, known):
+    """How many instructions can be done from a place on ahead of one that counts, or ends."""
+    if at not in known:
+        part = code.instructions[at]
+        if part[0] in PIECES + ("return", "tail"):
+            known[at] = 0
+        else:
+            known[at] = 1 + max(longest(code, target, known) for target, _ in steps(at, part))
+    return known[at]
+
+
+def is_row(row, size):
+    if type(row) is not tuple or len(row) != 6:
+        return False
+    for registers in row[:1] + row[2:5]:
+        if type(registers) is not tuple or not all(is_int(one, 0, size - 1) for one in registers):
+            return False
+        if list(registers) != sorted(set(registers)):
+            return False
+    if type(row[1]) is not tuple or not all(type(one) is bool for one in row[1]):
+        return False
+    return row[1] in [(False,), (True,), (False, True)] and is_int(row[5], 0, 2 ** 30)
+
+
+def is_shown(codes, paper):
+    """Whether a thing is a paper for code whose form is good."""
+    if type(paper) is not list or len(paper) != len(codes):
+        return False
+    for code, rows in zip(codes, paper):
+        if type(rows) is not list or len(rows) != len(code.instructions):
+            return False
+        if not all(row is None or is_row(row, code.size) for row in rows):
+            return False
+        first = rows[0]
+        if first is None or not set(first[0]) <= set(range(code.params)) or False not in first[1] or first[3]:
+            return False
+        if not all(row is None or is_row_shown(codes, code, rows, at) for at, row in enumerate(rows)):
+            return False
+    return True
+
+
+def is_row_shown(codes, code, rows, at):
+    part = code.instructions[at]
+    word = part[0]
+    written, left, pending, plans, needed, rank = rows[at]
+    if any(rows[target] is None for target, _ in steps(at, part)):
+        return False
+    # The words of [70] are asked of what the row tells, as if it were true.
+    ways = Ways.__new__(Ways)
+    ways.codes, ways.code, ways.parts = codes, code, code.instructions
+    ways.before = {at: (frozenset(written), frozenset(left), frozenset(pending), frozenset(plans))}
+    ways.needed = {target: frozenset(rows[target][4]) for target, _ in steps(at, part)}
+    ways.is_loop = lambda first: False
+    if ways.fault(at) is not None:
+        return False
+    for target, (more, behind, marked, going) in ways.after(at):
+        other = rows[target]
+        if not set(other[0]) <= more or not set(other[3]) <= going:
+            return False
+        if not behind <= set(other[1]) or not marked <= set(other[2]):
+            return False
+        if word not in PIECES and other[5] >= rank:
+            return False
+    own = [] if word in ("if", "unless") else reads(codes, part)
+    return set(own) | ways.behind(at) <= set(needed)

@@ -63,12 +63,12 @@ class LibraryFrame(Frame):
         Frame.__init__(self)
         self.is_entered = False
 
-    def ask(self, run, called, args):
+    def ask(self, run, called, given):
         """Calls something; the first time the frame is entered ahead of it."""
         if not self.is_entered:
             run.push(self)
             self.is_entered = True
-        run.call(called, args)
+        run.call(called, given)
 
     def end_with(self, run, results):
         """Ends the call with its results."""
@@ -111,9 +111,9 @@ class Catcher(Frame):
 class ProtectedCall(Catcher):
     """A call of pcall."""
 
-    def __init__(self, called, args):
+    def __init__(self, called, given):
         Catcher.__init__(self)
-        self.wanted = (called, args)
+        self.wanted = (called, given)
         self.results = None
 
     def take(self, values):
@@ -123,9 +123,9 @@ class ProtectedCall(Catcher):
     def do_step(self, run):
         """Calls what is to be called, then gives its results, or what was thrown when all is closed."""
         if self.wanted is not None:
-            called, args = self.wanted
+            called, given = self.wanted
             self.wanted = None
-            run.call(called, args)
+            run.call(called, given)
         elif not self.has_caught:
             run.leave([True] + self.results)
         elif not self.close_next(run):

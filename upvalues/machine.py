@@ -14,20 +14,20 @@ class Machine:
         self.codes = codes
         self.main = codes[0]
 
-    def frame(self, closure, args):
+    def frame(self, closure, given):
         """A frame for the call of a function."""
-        return CodeFrame(self.codes, closure, args)
+        return CodeFrame(self.codes, closure, given)
 
 
 class CodeFrame(ProgramFrame):
     """A call of a function of code."""
 
-    def __init__(self, codes, closure, args):
+    def __init__(self, codes, closure, given):
         code = closure.body
-        ProgramFrame.__init__(self, closure, args[code.params:] if code.has_dots else [])
+        ProgramFrame.__init__(self, closure, given[code.params:] if code.has_dots else [])
         self.codes = codes
         self.body = code
-        params = args[:code.params]
+        params = given[:code.params]
         self.registers = [Cell(value) for value in params]
         self.registers.extend([Cell(None) for _ in range(code.size - len(params))])
         self.at = 0

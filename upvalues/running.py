@@ -68,13 +68,13 @@ class Run:
 
     # What comes next.
 
-    def call(self, called, args):
+    def call(self, called, given):
         """Lets something be called; its results are told to the topmost frame."""
-        self.wanted = ("call", called, args)
+        self.wanted = ("call", called, given)
 
-    def tail(self, called, args):
+    def tail(self, called, given):
         """Lets something be called; a function of the program takes the place of the topmost frame."""
-        self.wanted = ("tail", called, args)
+        self.wanted = ("tail", called, given)
 
     def close(self, value, error):
         """Lets a value be closed that is pending no more."""
@@ -129,31 +129,31 @@ class Run:
             raise LimitExceeded(self.bound)
         self.work += 1
 
-    def do_call(self, called, args):
+    def do_call(self, called, given):
         """Calls something."""
-        called, args = call_target(called, args)
+        called, given = call_target(called, given)
         self.count()
         if isinstance(called, Closure):
-            self.push(self.engine.frame(called, args))
+            self.push(self.engine.frame(called, given))
         else:
-            self.do_native(called, args)
+            self.do_native(called, given)
 
-    def do_tail(self, called, args):
+    def do_tail(self, called, given):
         """Calls something in the place of the topmost frame."""
-        called, args = call_target(called, args)
+        called, given = call_target(called, given)
         self.count()
         if isinstance(called, Closure):
-            self.thread.frames[-1] = self.engine.frame(called, args)
+            self.thread.frames[-1] = self.engine.frame(called, given)
         else:
-            self.do_native(called, args)
+            self.do_native(called, given)
 
-    def do_native(self, called, args):
+    def do_native(self, called, given):
         """Calls a function of the library, or one of wrap."""
         if isinstance(called, Resumer):
-            self.resume(called.thread, args, True)
+            self.resume(called.thread, given, True)
         else:
             act = called.act
-            act(self, args)
+            act(self, given)
 
     def do_give(self, values):
         """Tells values to the topmost frame; without one the thread has ended by them."""
@@ -167,16 +167,15 @@ class Run:
     def do_throw(self, value):
         """Takes frames away down to one that catches a value; without one the thread dies by it."""
         frames = self.thread.frames
-        at = len(frames) - 1
-        while at >= 0 and not frames[at].CATCHES:
-            at -= 1
-        if at < 0:
+        catching = [at for at, frame in enumerate(frames) if frame.CATCHES]
+        if len(catching) == 0:
             self.die(value)
             return
-        catcher = frames[at]
-        for frame in frames[at + 1:]:
+        first = catching[-1]
+        catcher = frames[first]
+        for frame in frames[first + 1:]:
             catcher.pending.extend(frame.pending)
-        del frames[at + 1:]
+        del frames[first + 1:]
         catcher.catch(value)
 
     # Frames.
@@ -216,7 +215,7 @@ class Run:
             return "too many resumes"
         return None
 
-    def resume(self, thread, args, is_wrapped):
+    def resume(self, thread, given, is_wrapped):
         """Lets a thread go on, if it can."""
         why = self.refusal(thread)
         if why is not None and is_wrapped:
@@ -232,11 +231,11 @@ class Run:
         thread.is_wrapped = is_wrapped
         self.thread = thread
         if thread.called is None:
-            self.give(args)
+            self.give(given)
         else:
             called = thread.called
             thread.called = None
-            self.call(called, args)
+            self.call(called, given)
 
     def go_back(self, status, values):
         """Lets the running thread have another status, and tells values to the one that resumed it."""

@@ -12,17 +12,17 @@ class Walker:
     def __init__(self, program):
         self.main = tree_of(program)
 
-    def frame(self, closure, args):
+    def frame(self, closure, given):
         """A frame for the call of a function."""
-        return WalkFrame(closure, args)
+        return WalkFrame(closure, given)
 
 
 class WalkFrame(ProgramFrame):
     """A call of a function of a program."""
 
-    def __init__(self, closure, args):
+    def __init__(self, closure, given):
         body = closure.body
-        ProgramFrame.__init__(self, closure, args[body.params:] if body.has_dots else [])
+        ProgramFrame.__init__(self, closure, given[body.params:] if body.has_dots else [])
         self.line = body.line
         # The variables in scope, with those that a forin hides, and the scopes that were begun.
         self.variables = []
@@ -33,7 +33,7 @@ class WalkFrame(ProgramFrame):
         # What is to be done, the next one last; each one a tuple whose first item is the act.
         self.todo = []
         begin_function(self, body)
-        params = args[:body.params]
+        params = given[:body.params]
         begin_variables(self, params + [None] * (body.params - len(params)))
 
     def line_told(self):
