@@ -11,7 +11,7 @@ class ReadmeTest(unittest.TestCase):
     def test_examples(self):
         found = doctest.testfile(README, module_relative=False)
         self.assertEqual(found.failed, 0)
-        self.assertGreater(found.attempted, 15)
+        self.assertGreater(found.attempted, 80)
 
 
 if __name__ == "__main__":
