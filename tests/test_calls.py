@@ -353,9 +353,12 @@ class ClosersTest(RunCase):
             try(function() @k for k in next, {1}, nil, c do local y end local z end)
             try(function() for k in next, {1}, nil, c do @m break end local z end)
             try(function() @n repeat local x <close> = c local y until true end)
+            try(function() @q if nil then local y elseif true then local x <close> = c local y end local z end)
+            try(function() @o if nil then local y else local x <close> = c local y end local z end)
+            try(function() @w while (function() local y return true end)() do local x <close> = c local y end end)
             try(function() local x <close> = c error('y', 0) end)
         """, ["false|@f: x", "false|@d: x", "false|@r: x", "false|@b: x", "false|@g: x", "false|@i: x", "false|@k: x", "false|@m: x", "false|@n: x",
-              "false|x"])
+              "false|@q: x", "false|@o: x", "false|@w: x", "false|x"])
 
     def test_the_event_of_that_time(self):
         self.check("""

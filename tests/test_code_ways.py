@@ -153,6 +153,12 @@ class PlanTest(CodeCase):
         self.passes(*THREE, ("forbegin", 0, 8), ("round",), ("forbegin", 0, 8), ("round",), ("fornext", 0, 6), END)
         self.word("plan", *THREE, ("forbegin", 0, 7), ("round",), ("forbegin", 0, 6), ("fornext", 0, 4), END, at=6)
 
+    def test_plans_of_other_registers(self):
+        four = THREE + [("load", 3, 1)]
+        self.passes(*four, ("forbegin", 1, 7), ("round",), ("fornext", 1, 5), END, size=5)
+        self.word("plan", *four, ("forbegin", 1, 8), ("round",), ("fornext", 1, 5), ("fornext", 0, 8), END, size=5, at=7)
+        self.word("plan", *four, ("forbegin", 1, 8), ("round",), ("fornext", 1, 5), ("fornext", 1, 8), END, size=5, at=7)
+
     def test_it_stays_where_fornext_goes_on(self):
         self.passes(*THREE, ("forbegin", 0, 7), ("round",), ("fornext", 0, 4), END, END)
 

@@ -175,6 +175,12 @@ class LiveTest(RunCase):
         self.looks("local co = coroutine.create(function() local c <close> = closer('c') local d <close> = closer('d') coroutine.yield() end)"
                    " coroutine.resume(co) coroutine.close(co)", "cd", "c")
         self.looks("local co = note('t', coroutine.create(look)) coroutine.resume(co) co = nil look()", "t", "")
+        self.looks("local co = coroutine.create(fun('f', id)) coroutine.close(co) look()", "")
+        self.looks("local co = coroutine.create(function() local a = new('a') error('x') end) coroutine.resume(co) look()", "")
+        self.looks("local co = coroutine.create(function() local a = new('a') coroutine.yield() end) coroutine.resume(co) coroutine.close(co) look()", "")
+        # One that waits does not lead to the one that resumed it.
+        self.looks("local inner = coroutine.create(coroutine.yield) coroutine.resume(note('o', coroutine.create(function() coroutine.resume(inner) look() end))) look()",
+                   "o", "")
         # The running one is reached, though nothing names it.
         self.looks("coroutine.resume(note('t', coroutine.create(function() look() end)))", "t")
 

@@ -288,6 +288,9 @@ class ErrorsTest(RunCase):
             print(pcall(function() @g f() end))
         """, ["false|@b: @a: why", "false|@c: why", "false|5", "false|@d: why", "false|@g: @e: @f: deep"])
 
+    def test_the_example_of_two_lines(self):
+        self.check_error("local f = coroutine.wrap(function() local x error('why') end) local a local b local c f()", "7: 3: why")
+
     def test_nothing_is_closed_by_an_error(self):
         self.check(CLOSER + """
             local co = create(function() local a <close> = closer('a') error('e', 0) end)
@@ -413,6 +416,15 @@ class CloseTest(RunCase):
         self.check(text.replace("DEPTH", "174"), ["close|a|nil", "true|true", "dead|true"])
         self.check(text.replace("DEPTH", "175"), ["true|false", "dead|true"])
         self.check(text.replace("DEPTH", "176"), ["false|@a: stack overflow", "close|a|nil", "dead|true"])
+
+    def test_close_needs_no_room_if_nothing_is_pending(self):
+        text = CR + "local co = create(function() yield() end) resume(co) local function f(n) if n > 0 then return (f(n - 1)) end return (close(co)) end print(pcall(f, 176))"
+        self.check(text, ["true|true"])
+        self.check(CR + "local f = wrap(function() error('x', 0) end) local function g(n) if n > 0 then return (g(n - 1)) end @a return (f()) end print(pcall(g, 176))",
+                   ["false|@a: x"])
+        # With a value to be closed there is no room for the closing of wrap.
+        self.check(CLOSER + "local f = wrap(function() local c <close> = closer('c') error('x', 0) end)"
+                   " local function g(n) if n > 0 then return (g(n - 1)) end @a return (f()) end print(pcall(g, 176))", ["false|@a: stack overflow"])
 
     def test_pending_values_of_a_lost_coroutine(self):
         self.check(CLOSER + "local co = create(function() local a <close> = closer('a') yield() end) resume(co) co = nil collect() print('end')", ["end"])

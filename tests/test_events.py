@@ -323,7 +323,7 @@ class LessTest(EventsCase):
     def test_numbers_and_strings(self):
         rows = [("lt", 1, 2, True), ("lt", 2, 2, False), ("le", 2, 2, True), ("gt", 3, 2, True), ("ge", 2, real(2.0), True), ("gt", 1, 2, False),
                 ("lt", 1, real(1.5), True), ("le", NAN, NAN, False), ("ge", NAN, 1, False), ("lt", 2 ** 53, real(2.0 ** 53), False),
-                ("lt", "a", "b", True), ("lt", "a", "ab", True), ("lt", "ab", "a", False), ("le", "a", "a", True), ("gt", "b", "a", True),
+                ("lt", "a", "b", True), ("lt", "a", "ab", True), ("lt", "ab", "a", False), ("le", "a", "a", True), ("lt", "a", "a", False), ("gt", "a", "a", False), ("gt", "b", "a", True),
                 ("lt", "Z", "a", True), ("lt", "", "a", True), ("ge", "a", "ab", False), ("lt", "10", "9", True)]
         for word, one, other, answer in rows:
             self.assertEqual(less_deed(word, one, other), ("value", answer), (word, one, other))

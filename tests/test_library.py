@@ -238,6 +238,36 @@ class RawTest(RunCase):
         self.check_values("return rawlen('x', 1), rawget({5}, 1, 2), rawequal(1, 1, 2), kind(1, 2), tonumber('5', 16), select('#', collect(1, 2))", 1, 5, True, "number", 5, 0)
 
 
+class CalledByOthersTest(RunCase):
+    """Functions of the library that are called by events, by pcall and by one another."""
+
+    def test_as_events(self):
+        self.check_values("return tostring(setmetatable({}, {__tostring = kind}))", "table")
+        self.check_values("return #setmetatable({1, 2}, {__len = rawlen}), setmetatable({}, {__index = rawequal}).x", 2, False)
+        self.check_values("local t = setmetatable({5}, {__pairs = next}) return pairs(t)", 1, 5, None)
+        self.check_values("local t = setmetatable({}, {__newindex = rawset}) t.x = 5 return t.x", 5)
+        self.check_values("return setmetatable({}, {__call = select})", ("table", 2))
+        self.check_values("return unpack(setmetatable({}, {__index = function(t, i) return i end, __len = rawlen}), 1, 3)", 1, 2, 3)
+
+    def test_errors_have_the_line_of_what_is_topmost(self):
+        self.check_error("local t = setmetatable({}, {__add = rawlen}) @a local x = 1 + t", "@a: bad argument #1 to 'rawlen' (table or string expected)")
+        self.check_error("local t = setmetatable({}, {__index = rawset}) @a local x = t.x", "@a: bad argument #3 to 'rawset' (value expected)")
+        self.check_error("local t = setmetatable({}, {__index = rawset}) unpack(t, 1, 1)", "bad argument #3 to 'rawset' (value expected)")
+        self.check_error("local t = setmetatable({}, {__tostring = next, __metatable = 1}) @a tostring(t)", "'__tostring' must return a string")
+        self.check_values("return pcall(setmetatable, 5)", False, "bad argument #1 to 'setmetatable' (table expected, got number)")
+        self.check_error("@a for k in rawlen, 5 do end", "@a: bad argument #1 to 'rawlen' (table or string expected)")
+        self.check_error("local t = setmetatable({}, {__close = rawget}) @a do local x <close> = t end @b rawget(t)",
+                         "@b: bad argument #2 to 'rawget' (value expected)")
+        self.check_values("return pcall(function() local x <close> = setmetatable({}, {__close = select}) error('x', 0) end)", False,
+                          "bad argument #1 to 'select' (number expected, got table)")
+
+    def test_by_one_another(self):
+        self.check_values("return pcall(pcall, pcall, rawlen, 'abc')", True, True, True, 3)
+        self.check_values("return pcall(select, 2, 'a', 'b')", True, "b")
+        self.check_values("return select(-1, pcall(error, 'x'))", "x")
+        self.check("print(pcall(print, 1)) print(pcall(tostring, 5)) print(pcall(collect))", ["1", "true", "true|5", "true"])
+
+
 class SelectTest(RunCase):
     def test_select(self):
         self.check_values("return select('#'), select('#', nil, nil), select('#', 1)", 0, 2, 1)

@@ -115,6 +115,21 @@ class ValuesTest(MachineCase):
         self.ends(("2: attempt to get length of a nil value",), ("load", 0, None), ("unary", 0, "len", 0), END)
         self.ends([True], ("load", 0, None), ("unary", 0, "not", 0), told(0, 1))
 
+    def with_event(self, event, function, *parts):
+        """Gives R[0] a table whose event is a function of the library, then does some parts."""
+        return [("table", 0, 0, 0), ("table", 1, 0, 0), ("load", 2, event), *fetch(3, function), ("set", 1, 2, 3), *fetch(2, "setmetatable"), ("move", 3, 0),
+                ("move", 4, 1), ("call", 2, 2, False, 0), ("load", 5, "k"), *parts]
+
+    def test_events(self):
+        self.ends([False], *self.with_event("__index", "rawequal", ("get", 6, 0, 5), told(6, 1)))
+        self.ends([False, ("table", 2)], *self.with_event("__index", "rawequal", ("self", 6, 0, "k"), told(6, 2)))
+        self.ends(["k"], *self.with_event("__newindex", "rawset", ("set", 0, 5, 5), ("get", 6, 0, 5), told(6, 1)))
+        self.ends([True, False], *self.with_event("__concat", "rawequal", ("op", 6, "concat", 0, 0), ("op", 7, "concat", 0, 5), told(6, 2)))
+        self.ends(["table", 0], *self.with_event("__unm", "kind", ("unary", 6, "neg", 0), ("unary", 7, "len", 0), told(6, 2)))
+        self.ends([False, True], *self.with_event("__le", "rawequal", ("op", 6, "ge", 0, 5), ("op", 7, "le", 0, 0), told(6, 2)))
+        self.ends([False, True], *self.with_event("__call", "rawequal", ("move", 6, 0), ("load", 7, 1), ("call", 6, 1, False, 1), ("move", 7, 0), ("move", 8, 0),
+                                                  ("call", 7, 1, False, 1), told(6, 2)))
+
     def test_function(self):
         parts = [("function", 0, 1), ("function", 1, 1), ("op", 2, "eq", 0, 1), told(0, 3)]
         self.ends([("function", 1), ("function", 2), False], *parts, others=[part_of(END)])

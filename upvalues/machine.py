@@ -206,7 +206,7 @@ def do_unless(frame, run, part):
 
 def do_round(frame, run, part):
     """("round",)"""
-    run.count()
+    run.count_work()
     frame.go_on()
 
 

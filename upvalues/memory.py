@@ -14,56 +14,56 @@ class Reach:
         self.fresh = []
         # For each key that is not reached: the values that wait for it in tables with weak keys.
         self.waiting = {}
-        self.add_all(values)
+        self.reach_all(values)
         while self.fresh:
             thing = self.fresh.pop()
             self.lead_on(thing)
-            self.add_all(self.waiting.pop(thing, ()))
+            self.reach_all(self.waiting.pop(thing, ()))
 
     def has(self, value):
         """Whether a value is reached; what is no object needs not be."""
         return not isinstance(value, Numbered) or value in self.found
 
-    def add(self, value):
+    def reach(self, value):
         """Lets a value be reached."""
         if not self.has(value):
             self.found[value] = True
             self.fresh.append(value)
 
-    def add_all(self, values):
+    def reach_all(self, values):
         """Lets some values be reached."""
         for value in values:
-            self.add(value)
+            self.reach(value)
 
     def lead_on(self, thing):
         """Lets be reached what an object that is reached leads to."""
         if isinstance(thing, Table):
             self.lead_from_table(thing)
         elif isinstance(thing, Thread):
-            self.add_all(held_by(thing))
+            self.reach_all(held_by(thing))
         elif isinstance(thing, Closure):
-            self.add_all([cell.value for cell in thing.cells])
+            self.reach_all([cell.value for cell in thing.cells])
         elif isinstance(thing, Resumer):
-            self.add(thing.thread)
+            self.reach(thing.thread)
 
     def lead_from_table(self, table):
         """Lets be reached what a table leads to: its metatable, and keys and values that are not weak."""
-        self.add(table.meta)
+        self.reach(table.meta)
         keys_are_weak, values_are_weak = mode_of(table)
         if not values_are_weak:
-            self.add_all(table.places)
+            self.reach_all(table.places)
         for node in used_nodes(table):
             if node.value is None:
                 continue
             if not keys_are_weak:
-                self.add(node.key)
+                self.reach(node.key)
             if not values_are_weak:
-                self.add_behind(node.key, node.value)
+                self.reach_behind(node.key, node.value)
 
-    def add_behind(self, key, value):
+    def reach_behind(self, key, value):
         """Lets a value be reached as soon as its key is."""
         if self.has(key):
-            self.add(value)
+            self.reach(value)
         else:
             self.waiting.setdefault(key, []).append(value)
 

@@ -123,7 +123,7 @@ class Run:
             else:
                 self.do_throw(wanted[1])
 
-    def count(self):
+    def count_work(self):
         """Counts a piece of work."""
         if self.work == self.bound:
             raise LimitExceeded(self.bound)
@@ -132,7 +132,7 @@ class Run:
     def do_call(self, called, given):
         """Calls something."""
         called, given = call_target(called, given)
-        self.count()
+        self.count_work()
         if isinstance(called, Closure):
             self.push(self.engine.frame(called, given))
         else:
@@ -141,7 +141,7 @@ class Run:
     def do_tail(self, called, given):
         """Calls something in the place of the topmost frame."""
         called, given = call_target(called, given)
-        self.count()
+        self.count_work()
         if isinstance(called, Closure):
             self.thread.frames[-1] = self.engine.frame(called, given)
         else:

@@ -209,7 +209,7 @@ def begin_round(frame, run, task):
     """(act, block, what comes behind it): begins a round, if the answer is true."""
     _, block, following = task
     if is_true(frame.waiting.pop()):
-        run.count()
+        run.count_work()
         frame.todo.append(following)
         begin_block(frame, block)
 
@@ -223,7 +223,7 @@ def walk_repeat(frame, run, task):
 
 def repeat_round(frame, run, task):
     """(act, block): begins a round; the block asks at its end."""
-    run.count()
+    run.count_work()
     frame.todo.append((repeat_unless, task))
     begin_block(frame, task[1])
 
@@ -252,7 +252,7 @@ def begin_for(frame, run, task):
 
 def begin_for_round(frame, run, plan, block):
     """Begins the round that a plan stands at."""
-    run.count()
+    run.count_work()
     frame.todo.append((go_on_for, plan, block))
     begin_block(frame, block)
     begin_variables(frame, [plan.value])
@@ -297,7 +297,7 @@ def begin_forin_round(frame, run, task):
     if values[0] is not None:
         control = frame.variables[-2]
         control.value = values[0]
-        run.count()
+        run.count_work()
         frame.todo.append(following)
         begin_block(frame, block)
         begin_variables(frame, values)
@@ -343,7 +343,7 @@ def leave_to_label(frame, run, task):
 
 def count_goto(frame, run, task):
     """Counts a goto."""
-    run.count()
+    run.count_work()
 
 
 def walk_label(frame, run, task):
