@@ -352,9 +352,9 @@ def protected(run, args):
     return run.catch(run.call, args[0], args[1:])
 
 
-def ended(make_frame, main, work, is_soft):
+def ended(make_frame, main, work, is_soft, depth=25):
     """The end, the log and the work of a run."""
-    run = Run(make_frame, work, is_soft)
+    run = Run(make_frame, work, is_soft, depth)
     try:
         done = run.catch(run.call, main(run), [])
     except OutOfWork:

@@ -376,7 +376,7 @@ class WalkFrame:
         return table
 
 
-def run_program(program, work, is_soft=False):
+def run_program(program, work, is_soft=False, depth=25):
     """The end, the log and the work of a program."""
     known = Known(program)
     main = ("function", (), True, program)
@@ -385,4 +385,5 @@ def run_program(program, work, is_soft=False):
         lambda run: run.closure(Made((), main, 0, ("_ENV", Cell(run.globals), None))),
         work,
         is_soft,
+        depth,
     )

@@ -222,6 +222,18 @@ class LanguageTest(unittest.TestCase):
         for name in own:
             self.assertFalse(hasattr(builtins, name), name)
 
+    def test_nothing_in_a_class_has_these_names(self):
+        for _, node, told in self.each(ast.ClassDef):
+            for inner in ast.walk(node):
+                found = [getattr(inner, field, None) for field in ("arg", "id", "attr", "name")]
+                for word in ("property", "staticmethod", "classmethod", "args"):
+                    self.assertNotIn(word, found, told)
+
+    def test_each_class_value_is_read_off_a_name(self):
+        for file, node, told in self.each(ast.Attribute):
+            if node.attr.isupper():
+                self.assertIsInstance(node.value, ast.Name, told)
+
     def test_is(self):
         for _, node, told in self.each(ast.Compare):
             for operator, right in zip(node.ops, node.comparators):

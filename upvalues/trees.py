@@ -115,8 +115,8 @@ class TreeMaker:
         """The trees of a call's function and its arguments."""
         called = self.one(path + (1,), node[1])
         if node[0] == "call":
-            return called, *self.list_of(path + (2,), node[2])
-        return called, (find_method, node[2]), *self.list_of(path + (3,), node[3])
+            return (called,) + self.list_of(path + (2,), node[2])
+        return (called, (find_method, node[2])) + self.list_of(path + (3,), node[3])
 
     def list_of(self, path, nodes):
         """The trees of a list, of which the last one gives all its values."""

@@ -67,7 +67,8 @@ def take_shaped(frame, run, task):
 
 def walk_call(frame, run, task):
     """(act, what is done with the results, parts: the function and the arguments)"""
-    frame.do_later([*task[2], (call_waiting, len(frame.waiting)), (task[1],)])
+    _, taker, parts = task
+    frame.do_later([*parts, (call_waiting, len(frame.waiting)), (taker,)])
 
 
 def find_method(frame, run, task):

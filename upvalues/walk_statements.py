@@ -352,7 +352,8 @@ def walk_label(frame, run, task):
 
 def walk_return(frame, run, task):
     """(act, line, values)"""
-    frame.do_later([*task[2], (go_back,)])
+    _, _, values = task
+    frame.do_later([*values, (go_back,)])
 
 
 def go_back(frame, run, task):
@@ -365,7 +366,8 @@ def go_back(frame, run, task):
 
 def walk_tail(frame, run, task):
     """(act, line, parts: the function and the arguments)"""
-    frame.do_later([*task[2], (call_in_place,)])
+    _, _, parts = task
+    frame.do_later([*parts, (call_in_place,)])
 
 
 def call_in_place(frame, run, task):
