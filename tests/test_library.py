@@ -58,6 +58,27 @@ class GlobalsTest(RunCase):
             self.assertEqual([row is not None for row in table.rows()].index(True), sums[name])
 
 
+    def test_keys_of_all_kinds(self):
+        # Tables, functions, those of wrap, and threads lie by their numbers.
+        text = """
+            local t0 = {}
+            local f1 = function() end
+            local co = coroutine.create(f1)
+            local w = coroutine.wrap(f1)
+            local f3 = function() end
+            local main = coroutine.running()
+            local t = {[co] = 'a', [w] = 'b', [f3] = 'c', [f1] = 'd', [print] = 'e', [t0] = 'f', [main] = 'g'}
+            local s = ''
+            for k, v in pairs(t) do s = s .. v end
+            return s, t[co], t[w], t[f3], t[f1], t[print], t[t0], t[main], t[{}], next(t, co) ~= nil
+        """
+        table = Table(9, 0, 7)
+        for key, value in zip([Table(1), Table(2), Table(3), Table(1), Native("print", None), Table(2), Table(0)], "abcdefg"):
+            table.put(key, value)
+        order = "".join(row[1] for row in table.rows() if row is not None)
+        self.check_values(text, order, "a", "b", "c", "d", "e", "f", "g", None, True)
+
+
 class PrintTest(RunCase):
     def test_rows(self):
         found, _ = self.run_text("print() print(nil) print(1, 'x', true, nil) print('') print(1.5, -0.0, 1e15, 2.0)")
