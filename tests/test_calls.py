@@ -154,6 +154,61 @@ class TailCallsTest(RunCase):
                    ["false|@a: attempt to call a nil value", "false|@b: attempt to index a function value"])
 
 
+# Rows of values, each the __call of the one ahead of it: row(many, last) is the first of so many tables.
+ROWS = """
+local function row(many, last)
+  for k = 1, many do last = setmetatable({}, {__call = last}) end
+  return last
+end
+"""
+# Ways in which a program calls the value r; those of events call it with a table in which it is the event.
+WAYS = [
+    "@b r()", "@b local x = r()", "@b local x = {r()}", "@b return r(1, 2)", "do local c <close> = nil @b return r() end", "local t = {r = r} @b t:r()",
+    "@b for k in r do end", "@b local x = setmetatable({}, {__add = r}) + 1", "@b local x = setmetatable({}, {__concat = r}) .. 'x'",
+    "@b local x = -setmetatable({}, {__unm = r})", "@b local x = #setmetatable({}, {__len = r})", "@b local x = setmetatable({}, {__eq = r}) == {}",
+    "@b local x = setmetatable({}, {__lt = r}) < 1", "@b do local c <close> = setmetatable({}, {__close = r}) end",
+]
+
+
+class CallRowsTest(RunCase):
+    def check_way(self, way, made, told):
+        self.check(ROWS + f"local r = {made} print(pcall(function() {way} end))", [f"false|@b: {told}"])
+
+    def test_ways_to_call_a_row_that_ends_at_its_hundredth(self):
+        for way in WAYS:
+            self.check_way(way, "row(100, nil)", "attempt to call a table value")
+            self.check_way(way, "row(99, 5)", "attempt to call a number value")
+            self.check_way(way, "row(99, 'x')", "attempt to call a string value")
+
+    def test_ways_to_call_a_row_that_is_too_long(self):
+        for way in WAYS:
+            for made in ("row(100, print)", "row(100, 5)", "row(101, nil)", "row(300, print)"):
+                self.check_way(way, made, "'__call' chain too long; possibly a loop")
+
+    def test_calls_by_functions_of_the_library(self):
+        for way in ("pcall(r)", "coroutine.resume(coroutine.create(function() return pcall(r) end))", "pcall(tostring, setmetatable({}, {__tostring = r}))",
+                    "pcall(pairs, setmetatable({}, {__pairs = r}))", "pcall(print, setmetatable({}, {__tostring = r}))",
+                    "pcall(unpack, setmetatable({}, {__len = r}))"):
+            for made, told in [("row(100, nil)", "attempt to call a table value"), ("row(99, true)", "attempt to call a boolean value"),
+                               ("row(100, true)", "'__call' chain too long; possibly a loop")]:
+                ahead = "true|" if "resume" in way else ""
+                self.check(ROWS + f"local r = {made} print({way})", [f"{ahead}false|{told}"])
+
+    def test_what_a_row_is_called_with(self):
+        self.check(ROWS + """
+            local function f(...) return select('#', ...), ... end
+            local r = row(99, f)
+            local many, first = r('x')
+            print(many, first == r, select(100, r('x')) == r, select(101, r('x')))
+        """, ["100|false|true|x"])
+
+    def test_a_call_that_comes_to_nothing_is_no_work(self):
+        # The main function, that of the rows with its rounds and calls, and pcall.
+        for many, last in [(100, "nil"), (99, "5"), (100, "print")]:
+            self.check_work(ROWS + f"local r = row({many}, {last}) pcall(r)", 1 + 1 + many + many + 1)
+        self.check_work(ROWS + "local r = row(99, rawlen) pcall(r)", 1 + 1 + 99 + 99 + 1 + 1)
+
+
 class ErrorsTest(RunCase):
     def test_lines_of_errors(self):
         self.check_error("@a local x = nil + 1", "@a: attempt to perform arithmetic on a nil value")

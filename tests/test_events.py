@@ -385,13 +385,20 @@ class CallTargetTest(EventsCase):
         self.assertIs(called, F)
         self.assertEqual([arg.number for arg in args[:-1]], list(range(99)))
         self.assertEqual(args[-1], "x")
-        text = "'__call' chain too long; possibly a loop"
-        self.throws(text, call_target, chain(100, "__call", F), [])
-        # The hundredth of the row is no function; that it has no event is not looked at.
-        self.throws(text, call_target, chain(100, "__call"), [])
-        self.throws(text, call_target, chain(99, "__call", 5), [])
         self.throws("attempt to call a table value", call_target, chain(99, "__call"), [])
         self.throws("attempt to call a number value", call_target, chain(98, "__call", 5), [])
+
+    def test_the_hundredth_of_a_row_with_an_event(self):
+        text = "'__call' chain too long; possibly a loop"
+        for event in (F, True, False, 5, "x", Table(1), table(call=F)):
+            self.throws(text, call_target, chain(100, "__call", event), [1])
+        self.throws(text, call_target, chain(101, "__call"), [1])
+        self.throws(text, call_target, chain(99, "__call", table(call=F)), [1])
+
+    def test_the_hundredth_of_a_row_without_an_event(self):
+        self.throws("attempt to call a table value", call_target, chain(100, "__call"), [1])
+        for value, kind in [(5, "number"), (real(1.5), "number"), ("x", "string"), (True, "boolean"), (False, "boolean"), (Table(1), "table"), (table(), "table")]:
+            self.throws(f"attempt to call a {kind} value", call_target, chain(99, "__call", value), [1])
 
     def test_rings(self):
         one = Table(1)

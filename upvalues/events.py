@@ -212,12 +212,12 @@ def call_target(called, args):
     args = list(args)
     many = 1
     while not is_function(called):
-        # What stands behind the last one of the row is not looked at.
-        if many == MOST_CALLED:
-            raise Thrown(chain_error("__call"))
         event = meta_of(called, "__call")
         if event is None:
             raise Thrown(f"attempt to call a {kind_name(called)} value")
+        # The last one of the row has to have an event, too, but what this is does not matter.
+        if many == MOST_CALLED:
+            raise Thrown(chain_error("__call"))
         args.insert(0, called)
         called = event
         many += 1
